@@ -1,0 +1,1 @@
+"""Takepairs: pairs of piles, from the greater of which multiples of the lesser are taken."""
