@@ -6,25 +6,30 @@ Rows of the program are counted, not seconds, so that a slow way is told from a 
 import functools
 import sys
 
-from takepairs import pairs, worths
+from takepairs import notes, pairs, plays as counts, tables, worths
 
 MOST_STEPS = 3000
-# Among numbers up to this one no way is slow, and counting would only make the tests so.
+# Among numbers up to this one and texts up to this length no way is slow, and counting would only make the tests so.
 SMALL = 1000
+SHORT = 40
 
 
 class TooManySteps(Exception):
     pass
 
 
-def all_small(pair, *numbers):
-    return all(abs(number) <= SMALL for number in pair + numbers)
+def is_small(handed):
+    if isinstance(handed, str):
+        return len(handed) <= SHORT
+    if isinstance(handed, int):
+        return abs(handed) <= SMALL
+    return all(is_small(part) for part in handed)
 
 
 def bounded(function):
     @functools.wraps(function)
     def asked(*handed):
-        if all_small(*handed):
+        if is_small(handed):
             return function(*handed)
         steps = 0
 
@@ -50,3 +55,12 @@ moves = bounded(pairs.moves)
 taken = bounded(pairs.taken)
 worth = bounded(worths.worth)
 leading = bounded(worths.leading)
+together = bounded(tables.together)
+wins = bounded(tables.wins)
+winning = bounded(tables.winning)
+moved = bounded(tables.moved)
+shortest = bounded(counts.shortest)
+longest = bounded(counts.longest)
+plays = bounded(counts.plays)
+shown = bounded(notes.shown)
+read = bounded(notes.read)

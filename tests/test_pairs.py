@@ -3,8 +3,9 @@
 import unittest
 
 from prompt import moves, quotients, taken
-from reckoning import MOST, divided, great_pairs, moves_gone_through, small_pairs, sum_neighbours
-from takepairs.errors import NoMove, TakeError
+from reckoning import MOST, divided, great_pairs, moves_gone_through, of_quotients, small_pairs, sum_neighbours
+from refusals import Refusals
+from takepairs.errors import NoMove
 
 SMALL = 40
 
@@ -38,9 +39,7 @@ class Quotients(unittest.TestCase):
     def test_great_piles_are_built_up_again(self):
         for pair in great_pairs():
             told = quotients(pair)
-            above, below = 1, 0
-            for quotient in reversed(told):
-                above, below = quotient * above + below, above
+            above, below = of_quotients(told)
             lesser, greater = sorted(pair)
             self.assertEqual(above * lesser, below * greater, pair)
             self.assertTrue(all(quotient >= 1 for quotient in told), pair)
@@ -120,13 +119,7 @@ class Moves(unittest.TestCase):
         self.assertEqual(moves(sum_neighbours()), 1)
 
 
-class Taken(unittest.TestCase):
-    def refused(self, pair, times):
-        with self.assertRaises(ValueError, msg=f"{pair}, {times}") as caught:
-            taken(pair, times)
-        self.assertIs(type(caught.exception), NoMove, f"{pair}, {times}")
-        self.assertIsInstance(caught.exception, TakeError)
-
+class Taken(Refusals):
     def test_written_out(self):
         self.assertEqual(taken((5, 2), 1), (3, 2))
         self.assertEqual(taken((5, 2), 2), (1, 2))
@@ -159,23 +152,23 @@ class Taken(unittest.TestCase):
         for pair in small_pairs(SMALL):
             beyond = len(moves_gone_through(pair)) + 1
             for times in (0, -1, -2, beyond, beyond + 1, beyond + 2):
-                self.refused(pair, times)
+                self.refused(NoMove, taken, pair, times)
 
     def test_no_move_in_great_piles(self):
         for pair in great_pairs():
             beyond = (max(pair) - 1) // min(pair) + 1
             for times in (0, -1, -beyond, beyond, beyond + 1):
-                self.refused(pair, times)
+                self.refused(NoMove, taken, pair, times)
 
     def test_numbers_far_beyond(self):
         for pair in [(5, 2), (2, 5), (7, 7), (1, 1), (12, 4), (MOST, 1), (1, MOST), (MOST, MOST)]:
             for times in (-10 ** 400, -10 ** 40, -MOST, MOST, 10 ** 40, 10 ** 400):
-                self.refused(pair, times)
+                self.refused(NoMove, taken, pair, times)
 
     def test_like_piles_have_no_move(self):
         for pile in (1, 2, 7, MOST - 1, MOST):
             for times in range(-3, 4):
-                self.refused((pile, pile), times)
+                self.refused(NoMove, taken, (pile, pile), times)
 
 
 if __name__ == "__main__":

@@ -16,7 +16,8 @@ def trees():
 
 class Sources(unittest.TestCase):
     def test_the_files_are_there(self):
-        self.assertLessEqual({"__init__.py", "errors.py", "pairs.py", "worths.py"}, set(trees()))
+        files = {"__init__.py", "errors.py", "pairs.py", "worths.py", "tables.py", "plays.py", "notes.py"}
+        self.assertLessEqual(files, set(trees()))
 
     def test_imports_are_the_packages_own(self):
         for name, tree in trees().items():
