@@ -19,8 +19,9 @@ def greater_tables():
 def nought_by_search(table, number):
     """The numbers of times by which moves in this pair make the table's worth nought, for piles of any size.
 
-    Where the lesser pile is left once or more besides the rest, the worth behind the move rises with what is left,
-    so it can be searched by halves; the move that leaves the rest alone is asked by itself.
+    Where the lesser pile is left once or more besides the rest, each time more makes the one fraction greater by one
+    and the other less, so the worth rises and can be searched by halves; the move that leaves the rest alone is asked
+    by itself.
     """
     lesser, greater = sorted(table[number])
     whole, rest = divmod(greater, lesser)
